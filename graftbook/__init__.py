@@ -1,0 +1,1 @@
+"""Graftbook: differences of trees, with papers."""
