@@ -69,9 +69,10 @@ def _turned(a):
 def forest_below(a, b):
     """Whether a comes ahead of b: by size, then by words, then by parents."""
     need_forests(a, b)
-    return _rank(a) < _rank(b)
+    return forest_rank(a) < forest_rank(b)
 
 
-def _rank(a):
+def forest_rank(a):
+    """What forest_below compares, for what surely is a forest."""
     words = node_words(a)
     return (len(words), words, node_parents(a))

@@ -14,10 +14,10 @@ def is_matching(value, a, b):
     others = node_sizes(b)
     if not are_rising_pairs(value, len(sizes), len(others)):
         return False
-    return all(_goes_with(value[:k], value[k], sizes, others) for k in range(len(value)))
+    return all(goes_with(value[:k], value[k], sizes, others) for k in range(len(value)))
 
 
-def _goes_with(pairs, pair, sizes, others):
+def goes_with(pairs, pair, sizes, others):
     """Whether a pair may stand in a matching behind other ones."""
     k, m = pair
     for i, j in pairs:
@@ -54,7 +54,7 @@ def _add_matchings(found, pairs, sizes, others):
     start = pairs[-1][0] + 1 if pairs else 0
     for k in range(start, len(sizes)):
         for m in range(len(others)):
-            if _goes_with(pairs, (k, m), sizes, others):
+            if goes_with(pairs, (k, m), sizes, others):
                 _add_matchings(found, pairs + ((k, m),), sizes, others)
 
 

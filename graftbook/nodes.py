@@ -71,6 +71,39 @@ def leaf_numbers(a):
     return tuple([post - size + 1 for post, size in enumerate(sizes)])
 
 
+def node_trees(a):
+    """For each node its tree."""
+    found = []
+    ahead = list(a[::-1])
+    while ahead:
+        tree = ahead.pop()
+        found.append(tree)
+        ahead.extend(tree[1][::-1])
+    return tuple(found)
+
+
+def node_rows(a):
+    """A dict of the numbers of each node's children, in order; those of the roots at -1."""
+    parents = node_parents(a)
+    rows = {}
+    for above in range(-1, len(parents)):
+        rows[above] = tuple([k for k, parent in enumerate(parents) if parent == above])
+    return rows
+
+
+def tree_size(tree):
+    """The number of nodes of a tree."""
+    return len(_listed((tree,)))
+
+
+def nearest_kept(parents, kept, k):
+    """The number of node k's nearest strict ancestor among those kept, -1 if there is none."""
+    above = parents[k]
+    while above >= 0 and above not in kept:
+        above = parents[above]
+    return above
+
+
 def covers(sizes, i, k):
     """Whether node i is a strict ancestor of node k, by the sizes of the trees."""
     return i < k < i + sizes[i]

@@ -185,3 +185,82 @@ def slow_row_matchings(a, b):
             for seconds in combinations(range(len(b)), many):
                 found.append(tuple(zip(firsts, seconds)))
     return sorted(found)
+
+
+def slow_part(a, kept):
+    """The forest of some nodes of a, by their numbers; the children of the others stand in their places."""
+    number = -1
+
+    def part(row):
+        nonlocal number
+        found = ()
+        for word, children in row:
+            number += 1
+            stays = number in kept
+            below = part(children)
+            found += ((word, below),) if stays else below
+        return found
+
+    return part(a)
+
+
+def relabelled(a, words):
+    """The forest with the shape of a and other words in preorder."""
+    left = list(reversed(words))
+
+    def row_of_words(row):
+        return tuple((left.pop(), row_of_words(children)) for _, children in row)
+
+    return row_of_words(a)
+
+
+def unlike_words(many, first="a"):
+    """So many words that are all unlike."""
+    return [first + letter for letter in "abcdefghijklmnopqrstuvwxyz"[:many]]
+
+
+def all_sets_of_pairs(size, other):
+    """All sets of pairs of so many nodes each, in which no node stands twice, as ascending tuples."""
+    for many in range(min(size, other) + 1):
+        for firsts in combinations(range(size), many):
+            for seconds in permutations(range(other), many):
+                yield tuple(zip(firsts, seconds))
+
+
+def slow_parents(a):
+    """For each node the number of its parent, -1 for roots, by the paths."""
+    paths = [path for _, path in slow_nodes(a)]
+    return [paths.index(path[:-1]) if len(path) > 1 else -1 for path in paths]
+
+
+FULL_PLOT_TEXTS = (
+    "1a,2b,3c,4d,5e,6f,7g,8h,9i,10j,11k,12l",
+    "12a(11b(10c(9d(8e(7f(6g(5h,4i,3j,2k,1l)))))))",
+    "3a(1b(20c,5d),7e(2f,4g)),999999999h(8i(6j,10k(9l)))",
+    "1a(2a,3a(4a,5a(6a,7a(8a,9a(100000000a(11a,12a))))))",
+)
+
+# None of these is a plot, a deed or a spot.
+NO_PLOTS = NOTHINGS + (
+    ((1, "a"),), ((1, "a", (), ()),), ((0, "a", ()),), ((-1, "a", ()),), ((True, "a", ()),), (("1", "a", ()),),
+    ((None, "a", ()),), ((1, "", ()),), ((1, "A", ()),), ((1, "abcdefghi", ()),), ((1, None, ()),),
+    ((1, "a", []),), ((1, "a", None),), ([1, "a", ()],), [(1, "a", ())], ((1, "a", ()), (1, "b", ())),
+    ((1, "a", ((1, "b", ()),)),), ((1, "a", ((2, "b", ()),)), (2, "c", ())), (1, "a", ()), ("a", 1, ()),
+    ((1, "a", ((2, "b", ()), (3, "c", [()]))),), ((1, "a", ("b",)),), ((1, "a", ((),)),), (("a", ()),),
+)
+
+
+def random_plot(rng, size, words="abc", deepest=8, marks=None):
+    """A plot with so many spots, by a random source of the test's own."""
+    left = rng.sample(marks or range(1, 2 * size + 3), size)
+
+    def spots(row):
+        return tuple((left.pop(), word, spots(children)) for word, children in row)
+
+    return spots(random_forest(rng, size, words, deepest))
+
+
+def random_plots(seed, many, most):
+    rng = random.Random(seed)
+    for _ in range(many):
+        yield random_plot(rng, rng.randint(0, most))
