@@ -30,7 +30,7 @@ def read_forest(text):
     at = _first_wrong(text)
     if at is not None:
         raise InvalidText(text, at)
-    return _forest_told(text)
+    return forest_told(text)
 
 
 def _first_wrong(text):
@@ -66,7 +66,7 @@ def _signs_behind(last, letters, opened):
     return signs
 
 
-def _forest_told(text):
+def forest_told(text):
     """The forest of a text in which nothing is wrong."""
     rows = [[]]
     above = []

@@ -5,10 +5,12 @@ import unittest
 from importlib import import_module
 
 from graftbook.distancepapers import distance_paper
-from graftbook.errors import InvalidForest, InvalidPrices
+from graftbook.errors import InvalidForest, InvalidPlot, InvalidPrices
 from graftbook.foresttext import read_forest
+from graftbook.loose import loose_pairs, loose_paper
+from graftbook.plottext import read_plot
 from graftbook.rowpapers import row_paper
-from tests.samples import FULL, NOTHINGS, SKEW, kinds_are_plain
+from tests.samples import FULL, FULL_PLOT_TEXTS, NOTHINGS, SKEW, kinds_are_plain
 
 A = read_forest("a(b,c(d))")
 B = read_forest("a(b,d)")
@@ -16,6 +18,11 @@ ROW = ["a", "b", "c"]
 OTHER_ROW = ("a", "c")
 STEPS = [("change", (0,), "b"), ("drop", (0, 1)), ("add", (0,), 1, "c")]
 PAIRS = ((0, 0), (1, 1), (3, 2))
+TOP_PAIRS = ((0, 0), (1, 1), (2, 2))
+ALIGNMENT = (("a", "a", (("b", "b", ()), ("c", "", (("d", "d", ()),)))),)
+TABLE = ((4, 1), (2, 0))
+PATTERN = read_forest("a(any,rest)")
+PLOT = read_plot("5a(2b,9c(1d)),7e")
 
 # For each function its arguments, by their names and in their sequence.
 CALLS = {
@@ -70,10 +77,70 @@ CALLS = {
         "step_on": {"a": A, "step": STEPS[0]}, "run_steps": {"a": A, "steps": STEPS},
         "steps_price": {"a": A, "steps": STEPS, "prices": SKEW}, "steps_back": {"a": A, "steps": STEPS},
     },
+    "traces": {
+        "trace_of": {"a": A, "steps": STEPS}, "steps_of": {"a": A, "b": B, "matching": PAIRS},
+        "least_steps": {"a": A, "b": B, "prices": SKEW}, "steps_shortened": {"a": A, "steps": STEPS},
+    },
+    "tops": {
+        "is_from_top": {"a": A, "b": B, "matching": TOP_PAIRS}, "top_distance": {"a": A, "b": B, "prices": SKEW},
+        "first_top_matching": {"a": A, "b": B, "prices": SKEW},
+    },
+    "alignments": {
+        "side_of": {"alignment": ALIGNMENT, "k": 1}, "alignment_holds": {"a": A, "b": B, "value": ALIGNMENT},
+        "alignment_price": {"alignment": ALIGNMENT, "prices": SKEW},
+        "aligned_distance": {"a": A, "b": B, "prices": SKEW}, "best_alignment": {"a": A, "b": B, "prices": SKEW},
+        "alignment_matching": {"alignment": ALIGNMENT},
+    },
+    "choices": {
+        "best_choice": {"table": TABLE}, "choice_paper": {"table": TABLE},
+        "choice_holds": {"table": TABLE, "choice": (1, 0), "paper": ((1, 0), (2, 0))},
+    },
+    "likeness": {
+        "sorted_form": {"a": A}, "alike": {"a": A, "b": A}, "pairing_of": {"a": A, "b": A},
+        "pairing_holds": {"a": A, "b": A, "pairing": (0, 1, 2, 3)}, "ways_alike": {"a": A},
+    },
+    "loose": {
+        "loose_distance": {"a": A, "b": B, "prices": SKEW}, "loose_pairs": {"a": A, "b": B, "prices": SKEW},
+        "loose_paper": {"a": A, "b": B, "prices": SKEW},
+        "loose_holds": {"a": A, "b": B, "prices": SKEW, "n": 6, "pairs": loose_pairs(A, B, SKEW),
+                        "paper": loose_paper(A, B, SKEW)},
+    },
+    "embeddings": {
+        "embedding_of": {"a": B, "b": A}, "count_embeddings": {"a": B, "b": A},
+        "embedding_holds": {"a": B, "b": A, "value": ((0, 0), (1, 1), (2, 3))}, "common_size": {"a": A, "b": B},
+        "common_forest": {"a": A, "b": B},
+    },
+    "patterns": {
+        "fits": {"pattern": PATTERN, "a": A}, "taken": {"pattern": PATTERN, "a": A},
+        "filled": {"pattern": PATTERN, "forests": [A, B]}, "found_at": {"pattern": PATTERN, "a": A},
+        "is_pattern": {"value": PATTERN},
+    },
+    "twins": {
+        "classes_of": {"a": A}, "greatest_twins": {"a": A}, "shared_form": {"a": A},
+        "unshared": {"form": (("a", (1, 1)), ("b", ())), "roots": (0, 1)},
+    },
+    "plots": {
+        "is_plot": {"value": PLOT}, "marks_of": {"t": PLOT}, "bare": {"t": PLOT}, "spot_at": {"t": PLOT, "m": 9},
+        "row_of": {"t": PLOT, "m": 5}, "marked": {"a": A, "marks": [4, 3, 2, 1]},
+    },
+    "plottext": {"plot_text": {"t": PLOT}, "read_plot": {"text": "1a(2b)"}},
+    "deeds": {
+        "is_deed": {"value": ("drop", 1)}, "run_deed": {"t": PLOT, "deed": ("move", 9, 0, 5)},
+        "refusal_of": {"t": PLOT, "deed": ("drop", 9)}, "back_deed": {"t": PLOT, "deed": ("drop", 1)},
+    },
 }
 
 # Arguments that may be lists or tuples (in rows and row papers a and b, too).
-SEQUENCES = ("words", "parents", "steps")
+SEQUENCES = ("words", "parents", "steps", "forests", "marks")
+
+# Functions that look at any value, with the arguments that may be any.
+LOOKING = {
+    "is_forest": ("value",), "is_prices": ("value",), "is_matching": ("value",), "row_paper_holds": ("n", "paper"),
+    "distance_paper_holds": ("n", "paper"), "distance_holds": ("n", "matching", "paper"),
+    "alignment_holds": ("value",), "choice_holds": ("choice", "paper"), "pairing_holds": ("pairing",),
+    "loose_holds": ("n", "pairs", "paper"), "embedding_holds": ("value",), "is_pattern": ("value",),
+    "is_plot": ("value",), "is_deed": ("value",),
+}
 
 
 def all_calls():
@@ -119,8 +186,7 @@ class Calls(unittest.TestCase):
 
     def test_whether_is_true_or_false(self):
         for function, given in all_calls():
-            if function.__name__.startswith(("is_", "forest_below")) or "holds" in function.__name__:
-                self.assertIs(function(**given) in (True, False), True)
+            if function.__name__.startswith(("is_", "forest_below", "alike", "fits")) or "holds" in function.__name__:
                 self.assertIs(type(function(**given)), bool)
 
 
@@ -139,15 +205,16 @@ class FirstOfAll(unittest.TestCase):
                     self.assertIs(caught.exception.value, value)
 
     def test_ahead_of_other_errors(self):
-        spoilable = ("matching", "path", "step", "i", "k", "value", "n", "paper")
+        spoilable = ("matching", "path", "step", "i", "k", "value", "n", "paper", "pairing", "pairs", "deed", "m")
         for function, given in all_calls():
             for name, error in self.checked(function, given):
                 wrong = {**given, name: "none"}
                 for other in spoilable:
-                    if other in given and function.__name__ not in ("is_forest", "is_prices"):
+                    if other in given:
                         wrong[other] = -1
-                if "steps" in given:
-                    wrong["steps"] = (None,)
+                for other in ("steps", "forests", "marks"):
+                    if other in given:
+                        wrong[other] = (None,)
                 with self.assertRaises(error) as caught:
                     function(**wrong)
                 self.assertEqual(caught.exception.value, "none")
@@ -156,8 +223,10 @@ class FirstOfAll(unittest.TestCase):
         rows = function.__module__ in ("graftbook.rows", "graftbook.rowpapers")
         found = []
         for name in given:
-            if name in ("a", "b") and not rows:
+            if name in ("a", "b", "pattern") and not rows:
                 found.append((name, InvalidForest))
+            if name == "t":
+                found.append((name, InvalidPlot))
             if name == "prices":
                 found.append((name, InvalidPrices))
         return found
@@ -165,29 +234,38 @@ class FirstOfAll(unittest.TestCase):
 
 class AnyValue(unittest.TestCase):
     def test_no_error_and_false(self):
-        looking = {"is_forest": "value", "is_prices": "value", "is_matching": "value", "row_paper_holds": "paper",
-                   "distance_paper_holds": "paper", "distance_holds": "paper"}
+        looked_at = 0
         for function, given in all_calls():
-            name = looking.get(function.__name__)
-            if name:
-                self.assertIs(function(**given), True)
+            for name in LOOKING.get(function.__name__, ()):
+                looked_at += 1
+                self.assertIs(function(**given), True, function.__name__)
                 for value in NOTHINGS:
-                    self.assertIs(function(**{**given, name: value}), False)
-                    if "n" in given and (value is True or value != given["n"]):
-                        self.assertIs(function(**{**given, "n": value}), False)
+                    if name != "n" or value is True or value != given["n"]:
+                        self.assertIs(function(**{**given, name: value}), False)
+        self.assertEqual(looked_at, sum(len(names) for names in LOOKING.values()))
 
 
 class FullSizes(unittest.TestCase):
     def test_forests_of_twelve_nodes(self):
-        narrow = ("all_matchings", "first_matching", "matching_counts", "sure_pairs", "open_pairs")
+        narrow = ("all_matchings", "first_matching", "matching_counts", "sure_pairs", "open_pairs", "least_steps",
+                  "first_top_matching", "aligned_distance", "best_alignment", "common_forest")
         for function, given in all_calls():
-            if "a" in given and given["a"] == A and function.__name__ not in narrow:
+            if given.get("a") in (A, B) and function.__name__ not in narrow:
                 for a in FULL:
                     larger = {**given, "a": a}
-                    if "path" in given:
-                        larger["path"] = (0,)
-                    if "steps" in given:
-                        larger["steps"] = STEPS[:1]
-                    if "matching" in given:
-                        larger["matching"] = ()
+                    for name, value in (("path", (0,)), ("steps", STEPS[:1]), ("matching", ()), ("pattern", a),
+                                        ("marks", tuple(range(1, 13)))):
+                        if name in given:
+                            larger[name] = value
+                    if function.__name__ == "pairing_of":
+                        larger["b"] = a
+                    function(**larger)
+
+    def test_plots_of_twelve_spots(self):
+        for function, given in all_calls():
+            if "t" in given:
+                for text in FULL_PLOT_TEXTS:
+                    larger = {**given, "t": read_plot(text)}
+                    if "deed" in given:
+                        larger["deed"] = ("word", 1, "x")
                     function(**larger)
