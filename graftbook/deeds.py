@@ -31,10 +31,10 @@ def refusal_of(t, deed):
     """The reason why a deed cannot be run, None if it can."""
     need_plot(t)
     need_deeds((deed,))
-    return _reason(t, deed)
+    return reason_against(t, deed)
 
 
-def _reason(t, deed):
+def reason_against(t, deed):
     """As refusal_of, for what surely is a plot and a deed."""
     kind = deed[0]
     m = deed[1]
@@ -71,7 +71,7 @@ def _is_at_or_below(spots, mark, m):
 def run_deed(t, deed):
     """The plot behind a deed."""
     _need_runnable(t, deed)
-    return _behind(t, deed)
+    return plot_behind(t, deed)
 
 
 def _need_runnable(t, deed):
@@ -80,8 +80,8 @@ def _need_runnable(t, deed):
         raise Refusal(deed, reason)
 
 
-def _behind(t, deed):
-    """The plot behind a deed that can be run."""
+def plot_behind(t, deed):
+    """The plot behind a deed that surely can be run."""
     kind = deed[0]
     m = deed[1]
     if kind == "word":

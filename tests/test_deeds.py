@@ -1,89 +1,16 @@
 """Promise 26, and of promise 27 refusal_of and back_deed: deeds."""
 
 import unittest
-from itertools import product
 
 from graftbook.deeds import back_deed, is_deed, refusal_of, run_deed
 from graftbook.errors import InvalidPlot, InvalidScript, Refusal
 from graftbook.plots import is_plot, marks_of
 from graftbook.plottext import plot_text, read_plot
+from tests.boards import NO_DEEDS, Board, all_deeds
 from tests.samples import FULL_PLOT_TEXTS, HUGE, LONG_WORD, NO_PLOTS, NOTHINGS, random_plots, spoilt
 
 PLOT = read_plot("5a(2b,9c(1d)),7e")
-NO_DEEDS = (
-    None, True, 0, "", "drop", (), [], ("drop",), ("drop", 0), ("drop", -1), ("drop", True), ("drop", "1"),
-    ("drop", None), ("drop", (1,)), ["drop", 1], ("drop", 1, 0), ("Drop", 1), (None, 1), (1, "drop"), ("drop", [1]),
-    ("word", 1), ("word", 1, ""), ("word", 1, "A"), ("word", 1, "abcdefghi"), ("word", 1, None), ("word", 1, "a", 0),
-    ("word", 0, "a"), ("word", "a", 1), ("word", 1, ("a",)), ("word", True, "a"), ("move", 1), ("move", 1, 0),
-    ("move", 0, 0, 0), ("move", 1, -1, 0), ("move", 1, 0, -1), ("move", 1, True, 0), ("move", 1, 0, False),
-    ("move", 1, None, 0), ("move", 1, 0, 0, 0), ("move", 1, "a", 0, 0), ("add", 1), ("add", 1, "a"),
-    ("add", 1, "a", 0), ("add", 1, 0, 0), ("add", 1, "a", 0, 0, 0), ("add", 0, "a", 0, 0), ("add", -1, "a", 0, 0),
-    ("add", 1, "", 0, 0), ("add", 1, "A", 0, 0), ("add", 1, "a", -1, 0), ("add", 1, "a", 0, -1),
-    ("add", 1, "a", True, 0), ("add", 1, "a", 0, False), ("add", 1, "a", (0,), 0), ("add", True, "a", 0, 0),
-    ("change", (0,), "a"), ("drop", (0,)), ("add", (0,), 1, "a"), ("swap", 1),
-)
 KINDS = ("add", "drop", "move", "word")
-
-
-class Board:
-    """A plot as a dict of words and one of rows, for running deeds slowly."""
-
-    def __init__(self, t):
-        self.words, self.rows = {}, {0: []}
-        self.put(t, 0)
-
-    def put(self, row, parent):
-        for mark, word, children in row:
-            self.rows[parent].append(mark)
-            self.words[mark], self.rows[mark] = word, []
-            self.put(children, mark)
-
-    def plot(self, parent=0):
-        return tuple((mark, self.words[mark], self.plot(mark)) for mark in self.rows[parent])
-
-    def parent(self, m):
-        return next(parent for parent, row in self.rows.items() if m in row)
-
-    def tree(self, m):
-        return {m}.union(*(self.tree(child) for child in self.rows[m]))
-
-    def refusal(self, deed):
-        kind, m = deed[:2]
-        if (kind == "add") == (m in self.words):
-            return "mark"
-        if kind in ("add", "move"):
-            parent, behind = deed[-2:]
-            if parent not in self.rows:
-                return "parent"
-            if kind == "move" and parent in self.tree(m):
-                return "inside"
-            if behind != 0 and behind not in [mark for mark in self.rows[parent] if mark != m]:
-                return "behind"
-        if kind == "drop" and self.rows[m]:
-            return "children"
-        return None
-
-    def run(self, deed):
-        kind, m = deed[:2]
-        if kind == "word":
-            self.words[m] = deed[2]
-        if kind in ("drop", "move"):
-            self.rows[self.parent(m)].remove(m)
-        if kind == "add":
-            self.words[m], self.rows[m] = deed[2], []
-        if kind in ("add", "move"):
-            row = self.rows[deed[-2]]
-            row.insert(row.index(deed[-1]) + 1 if deed[-1] else 0, m)
-
-
-def all_deeds(marks):
-    """All deeds with these marks, and 0, and the word x."""
-    for m in marks:
-        yield ("drop", m)
-        yield ("word", m, "x")
-        for parent, behind in product((0,) + marks, repeat=2):
-            yield ("move", m, parent, behind)
-            yield ("add", m, "x", parent, behind)
 
 
 class IsDeed(unittest.TestCase):
