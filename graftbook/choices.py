@@ -25,10 +25,11 @@ def best_choice(table):
     """The first, by Python's order, of the choices with the least sum."""
     _need_table(table)
     choices = list(permutations(range(len(table))))
-    return min(choices, key=lambda choice: _sum_of(table, choice))
+    return min(choices, key=lambda choice: choice_sum(table, choice))
 
 
-def _sum_of(table, choice):
+def choice_sum(table, choice):
+    """The sum of a choice's entries."""
     return sum([row[column] for row, column in zip(table, choice)])
 
 
@@ -49,7 +50,7 @@ def choice_holds(table, choice, paper):
         for j, entry in enumerate(row):
             if u[i] + v[j] > entry:
                 return False
-    return sum(u) + sum(v) == _sum_of(table, choice)
+    return sum(u) + sum(v) == choice_sum(table, choice)
 
 
 def _is_choice(value, size):

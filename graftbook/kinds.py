@@ -1,5 +1,6 @@
 """What kind of value something is: integers, numbers, words, tuples of a length."""
 
+FIGURES = "0123456789"
 LETTERS = "abcdefghijklmnopqrstuvwxyz"
 LONGEST_WORD = 8
 

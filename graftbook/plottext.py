@@ -2,10 +2,9 @@
 
 from graftbook.errors import InvalidText
 from graftbook.foresttext import forest_told
-from graftbook.kinds import LETTERS, LONGEST_WORD
+from graftbook.kinds import FIGURES, LETTERS, LONGEST_WORD
 from graftbook.plots import marked, need_plot
 
-FIGURES = "0123456789"
 LONGEST_MARK = 9
 MOST_OPEN = 12
 

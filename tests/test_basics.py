@@ -4,6 +4,7 @@ import inspect
 import unittest
 from importlib import import_module
 
+from graftbook.between import script_between
 from graftbook.distancepapers import distance_paper
 from graftbook.errors import InvalidForest, InvalidPlot, InvalidPrices
 from graftbook.foresttext import read_forest
@@ -23,6 +24,15 @@ ALIGNMENT = (("a", "a", (("b", "b", ()), ("c", "", (("d", "d", ()),)))),)
 TABLE = ((4, 1), (2, 0))
 PATTERN = read_forest("a(any,rest)")
 PLOT = read_plot("5a(2b,9c(1d)),7e")
+OTHER_PLOT = read_plot("7e,5x(9c(1d,3f))")
+SCRIPT = [("word", 2, "x"), ("move", 2, 0, 7)]
+OTHER_SCRIPT = [("word", 9, "y"), ("add", 3, "f", 9, 1)]
+HISTORY = [("add", 1, "a", 0, 0), ("add", 2, "b", 1, 0), ("word", 2, "y"), ("word", 1, "x")]
+TURNED = [HISTORY[0], HISTORY[1], HISTORY[3], HISTORY[2]]
+SIDES = {"base": PLOT, "left": OTHER_PLOT, "right": PLOT}
+BOTH = {"t": PLOT, "p": SCRIPT, "q": OTHER_SCRIPT}
+ALL = {"t": PLOT, "scripts": [SCRIPT, OTHER_SCRIPT, [("drop", 1)]]}
+CLAIM = ("least", PLOT, OTHER_PLOT, 4)
 
 # For each function its arguments, by their names and in their sequence.
 CALLS = {
@@ -128,10 +138,44 @@ CALLS = {
         "is_deed": {"value": ("drop", 1)}, "run_deed": {"t": PLOT, "deed": ("move", 9, 0, 5)},
         "refusal_of": {"t": PLOT, "deed": ("drop", 9)}, "back_deed": {"t": PLOT, "deed": ("drop", 1)},
     },
+    "scripts": {
+        "run": {"t": PLOT, "script": SCRIPT}, "prefix_run": {"t": PLOT, "script": SCRIPT},
+        "back_script": {"t": PLOT, "script": SCRIPT}, "touched": {"script": SCRIPT},
+    },
+    "merges": {
+        "are_free": {"t": PLOT, "d": SCRIPT[0], "e": OTHER_SCRIPT[0]}, "agree": BOTH, "merged": BOTH, "corners": BOTH,
+        "is_square": BOTH, "clash_of": {**BOTH, "q": [("word", 2, "y")]}, "far_apart": {"p": SCRIPT, "q": OTHER_SCRIPT},
+    },
+    "lots": {"lots_agree": ALL, "merged_all": {**ALL, "scripts": ALL["scripts"][:2]}, "greatest_lot": ALL},
+    "between": {
+        name: {"t": PLOT, "u": OTHER_PLOT} for name in ("script_between", "plot_distance", "kept_marks")
+    },
+    "threes": {
+        "merged_three": SIDES, "three_agree": SIDES,
+        "merged_forests": {"base": A, "left": B, "right": A, "prices": SKEW},
+    },
+    "histories": {
+        "orders_of": {"history": HISTORY}, "is_order": {"history": HISTORY, "value": (0, 1, 3, 2)},
+        "in_order": {"history": HISTORY, "order": (0, 1, 3, 2)}, "normal": {"history": HISTORY},
+        "same_deeds": {"history": HISTORY, "other": TURNED},
+    },
+    "picks": {
+        "needs": {"history": HISTORY, "i": 2}, "layers": {"history": HISTORY},
+        "picked": {"history": HISTORY, "numbers": [1, 0]}, "without": {"history": HISTORY, "i": 3},
+    },
+    "swaps": {
+        "swaps_between": {"history": HISTORY, "other": TURNED},
+        "swaps_hold": {"history": HISTORY, "other": TURNED, "paper": (2,)},
+    },
+    "claims": {
+        "is_claim": {"value": CLAIM}, "claim_holds": {"claim": CLAIM, "paper": script_between(PLOT, OTHER_PLOT)},
+        "seal_claim": {"claim": CLAIM}, "right_claim": {"claim": CLAIM},
+    },
+    "told": {"told": {"value": CLAIM}, "untold": {"text": '(("drop",1),)'}},
 }
 
 # Arguments that may be lists or tuples (in rows and row papers a and b, too).
-SEQUENCES = ("words", "parents", "steps", "forests", "marks")
+SEQUENCES = ("words", "parents", "steps", "forests", "marks", "script", "scripts", "p", "q", "history", "numbers")
 
 # Functions that look at any value, with the arguments that may be any.
 LOOKING = {
@@ -139,7 +183,8 @@ LOOKING = {
     "distance_paper_holds": ("n", "paper"), "distance_holds": ("n", "matching", "paper"),
     "alignment_holds": ("value",), "choice_holds": ("choice", "paper"), "pairing_holds": ("pairing",),
     "loose_holds": ("n", "pairs", "paper"), "embedding_holds": ("value",), "is_pattern": ("value",),
-    "is_plot": ("value",), "is_deed": ("value",),
+    "is_plot": ("value",), "is_deed": ("value",), "is_order": ("value",), "swaps_hold": ("paper",),
+    "is_claim": ("value",), "claim_holds": ("claim", "paper"),
 }
 
 
@@ -175,8 +220,10 @@ class Calls(unittest.TestCase):
         for function, given in all_calls():
             result = function(**given)
             for name, value in given.items():
-                is_row = function.__module__ in ("graftbook.rows", "graftbook.rowpapers") and name in ("a", "b")
-                if name in SEQUENCES or is_row:
+                module = function.__module__
+                is_row = module in ("graftbook.rows", "graftbook.rowpapers") and name in ("a", "b")
+                is_history = module in ("graftbook.histories", "graftbook.swaps") and name == "other"
+                if name in SEQUENCES or is_row or is_history:
                     for kind in (list, tuple):
                         self.assertEqual(function(**{**given, name: kind(value)}), result)
 
@@ -186,7 +233,10 @@ class Calls(unittest.TestCase):
 
     def test_whether_is_true_or_false(self):
         for function, given in all_calls():
-            if function.__name__.startswith(("is_", "forest_below", "alike", "fits")) or "holds" in function.__name__:
+            name = function.__name__
+            if name.startswith(("is_", "forest_below", "alike", "fits", "are_free", "same_deeds", "far_apart")):
+                self.assertIs(type(function(**given)), bool)
+            if name.endswith(("holds", "hold", "agree")):
                 self.assertIs(type(function(**given)), bool)
 
 
@@ -205,14 +255,15 @@ class FirstOfAll(unittest.TestCase):
                     self.assertIs(caught.exception.value, value)
 
     def test_ahead_of_other_errors(self):
-        spoilable = ("matching", "path", "step", "i", "k", "value", "n", "paper", "pairing", "pairs", "deed", "m")
+        spoilable = ("matching", "path", "step", "i", "k", "value", "n", "paper", "pairing", "pairs", "deed", "m",
+                     "script", "d", "e", "p", "q")
         for function, given in all_calls():
             for name, error in self.checked(function, given):
                 wrong = {**given, name: "none"}
                 for other in spoilable:
                     if other in given:
                         wrong[other] = -1
-                for other in ("steps", "forests", "marks"):
+                for other in ("steps", "forests", "marks", "scripts"):
                     if other in given:
                         wrong[other] = (None,)
                 with self.assertRaises(error) as caught:
@@ -225,8 +276,10 @@ class FirstOfAll(unittest.TestCase):
         for name in given:
             if name in ("a", "b", "pattern") and not rows:
                 found.append((name, InvalidForest))
-            if name == "t":
+            if name in ("t", "u"):
                 found.append((name, InvalidPlot))
+            if name in ("base", "left", "right"):
+                found.append((name, InvalidForest if function.__name__ == "merged_forests" else InvalidPlot))
             if name == "prices":
                 found.append((name, InvalidPrices))
         return found
@@ -266,6 +319,9 @@ class FullSizes(unittest.TestCase):
             if "t" in given:
                 for text in FULL_PLOT_TEXTS:
                     larger = {**given, "t": read_plot(text)}
-                    if "deed" in given:
-                        larger["deed"] = ("word", 1, "x")
+                    deed = ("word", 1, "x")
+                    for name, value in (("deed", deed), ("d", deed), ("e", deed), ("script", [deed]), ("p", [deed] * 8),
+                                        ("q", [deed] * 8), ("scripts", [[deed] * 4] * 4)):
+                        if name in given:
+                            larger[name] = value
                     function(**larger)
